@@ -40,14 +40,6 @@ var functions = [...]string{api.FCount: "count", api.FSum: "sum", api.FMin: "min
 
 var strategies = [...]string{api.Any: "any", api.Next: "next", api.Strict: "strict"}
 
-// functionWord tells a function's word: "", if it is none.
-func functionWord(function int) string {
-	if function < 0 || function >= len(functions) {
-		return ""
-	}
-	return functions[function]
-}
-
 // strategyWord tells a strategy's word: "", if it is none.
 func strategyWord(strategy int) string {
 	if strategy < 0 || strategy >= len(strategies) {
@@ -163,7 +155,7 @@ func (w *writer) expr(e api.Expr) {
 }
 
 func (w *writer) function(e api.Expr) {
-	w.add(functionWord(e.Op), "(", e.Var, places[e.At])
+	w.add(functions[e.Op], "(", e.Var, places[e.At])
 	if e.Op != api.FCount {
 		w.add(".", e.Attr)
 	}
