@@ -1,6 +1,7 @@
 package shape_test
 
 import (
+	"reflect"
 	"slices"
 	"strconv"
 	"strings"
@@ -8,6 +9,7 @@ import (
 
 	"refrain/api"
 	"refrain/shape"
+	"refrain/tree"
 )
 
 // What the forms are in all their parts is tested where they are promised: in package tree.
@@ -106,5 +108,31 @@ func TestAlike(t *testing.T) {
 	}
 	if shape.Alike(not(text("a")), and(text("a"), text("a"))) || shape.Alike(api.Expr{Kids: []api.Expr{{}}}, api.Expr{}) {
 		t.Error("how many Kids there are is not asked")
+	}
+}
+
+// TestCopy sees that a copy is the same, and that nothing of it is what was handed in.
+func TestCopy(t *testing.T) {
+	shared := []api.Expr{text("a"), {Kind: 77, Op: -1, Val: api.Value{Bool: true, Int: 5}, Var: "v", At: 9, Attr: "x"}}
+	e := api.Expr{Kind: 9, Var: "w", Kids: []api.Expr{{Kids: shared}, {Kids: shared}, {Kids: []api.Expr{}}, not(text("c"))}}
+	was := shape.Copy(e)
+	for range 2 {
+		c := shape.Copy(e)
+		if !reflect.DeepEqual(c, was) || !tree.Equal(c, e) {
+			t.Fatalf("a copy of %+v is %+v", e, c)
+		}
+		c.Kids[0].Kids[1] = text("other")
+		_ = append(c.Kids[3].Kids, text("behind"))
+		clear(c.Kids[1].Kids)
+		c.Kids[3] = text("other")
+	}
+	if !tree.Equal(e, was) || e.Kids[0].Kids[1].Var != "v" {
+		t.Errorf("what was handed in is %+v", e)
+	}
+	if c := shape.Copy(under(1_000_000, text("deep"))); !tree.Equal(c, under(1_000_000, text("deep"))) {
+		t.Error("the copy of a deep expression is another one")
+	}
+	if c := shape.Copy(api.Expr{}); !reflect.DeepEqual(c, api.Expr{}) {
+		t.Errorf("a copy of nothing is %+v", c)
 	}
 }
